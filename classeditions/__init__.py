@@ -1,0 +1,1 @@
+"""Papers marked with classes of a scheme whose editions change."""

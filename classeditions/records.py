@@ -1,0 +1,33 @@
+"""What one object keeps from call to call."""
+
+
+class Paper:
+    """A paper: its day, its words, and its marks as sets of topics."""
+
+    def __init__(self, day, words, marks):
+        self.day = day
+        self.words = words
+        self.marks = marks
+
+    def has_mark(self, i):
+        return i < len(self.marks)
+
+
+class Records:
+    """The editions and the papers, each counted from 0."""
+
+    def __init__(self):
+        self.editions = []
+        self.papers = []
+
+    def has_edition(self, e):
+        return e < len(self.editions)
+
+    def has_class(self, e, c):
+        return self.has_edition(e) and self.editions[e].has_class(c)
+
+    def class_topics(self, e, c):
+        return self.editions[e].classes[c].topics
+
+    def has_paper(self, p):
+        return p < len(self.papers)
