@@ -2,12 +2,14 @@
 
 from classeditions.edition_calls import answer_edition_call
 from classeditions.paper_calls import answer_paper_call
+from classeditions.query_calls import answer_query_call
 from classeditions.records import Records
 from classeditions.refusals import OUT_OF_RANGE
 from classeditions.shapes import in_range, split_calls
 
 LAST_EDITION_CALL = 5
-LAST_PAPER_CALL = 9
+LAST_PAPER_CALL = 10
+LAST_QUERY_CALL = 17
 
 
 def answers(calls):
@@ -29,4 +31,11 @@ def answer(records, number, numbers, rows):
         return answer_edition_call(records, number, numbers, rows)
     if number <= LAST_PAPER_CALL:
         return answer_paper_call(records, number, numbers, rows)
-    raise NotImplementedError("the calls from told on aren't there yet")
+    if number <= LAST_QUERY_CALL:
+        return answer_query_call(records, number, numbers, rows)
+    return tell_counts(records)
+
+
+def tell_counts(records):
+    """The call 18 counts."""
+    return [len(records.editions), len(records.papers)]

@@ -4,6 +4,7 @@ from classeditions.concords import classes_meeting, narrowest_holder, own_togeth
 from classeditions.edition_text import read_classes
 from classeditions.editions import NO_CLASS, Edition
 from classeditions.refusals import FULL, NOT_RIGHT, NOT_THERE
+from classeditions.rows import counted
 
 MOST_EDITIONS = 4
 
@@ -76,8 +77,3 @@ def tell_holder(records, e, c, f):
     if records.class_topics(f, holder) == topics:
         return [1, holder, 1]
     return [1, holder, 0]
-
-
-def counted(row):
-    """The row with how many numbers it has before it."""
-    return [len(row)] + row

@@ -1,11 +1,12 @@
-"""The calls 6 paper to 9 unmark; their numbers and rows are in range already."""
+"""The calls 6 paper to 10 told; their numbers and rows are in range already."""
 
+from classeditions.meanings import MOST_MARKS
 from classeditions.records import Paper
 from classeditions.refusals import FULL, NO_PAPER, NOT_RIGHT, NOT_THERE
+from classeditions.rows import counted
 from classeditions.topics import size_of
 
 MOST_PAPERS = 12
-MOST_MARKS = 3
 
 
 def answer_paper_call(records, number, numbers, rows):
@@ -15,7 +16,9 @@ def answer_paper_call(records, number, numbers, rows):
         return add_mark(records, numbers[0], numbers[1], numbers[2])
     if number == 8:
         return narrow_mark(records, numbers[0], numbers[1], numbers[2], numbers[3])
-    return take_mark(records, numbers[0], numbers[1])
+    if number == 9:
+        return take_mark(records, numbers[0], numbers[1])
+    return tell_paper(records, numbers[0])
 
 
 def add_paper(records, day, words, classes):
@@ -36,11 +39,11 @@ def add_mark(records, p, e, c):
         return [NO_PAPER]
     if not records.has_class(e, c):
         return [NOT_THERE]
-    marks = records.papers[p].marks
-    if len(marks) == MOST_MARKS:
+    paper = records.papers[p]
+    if len(paper.marks) == MOST_MARKS:
         return [FULL]
-    marks.append(records.class_topics(e, c))
-    return [len(marks) - 1]
+    paper.put_marks(paper.marks + [records.class_topics(e, c)])
+    return [len(paper.marks) - 1]
 
 
 def narrow_mark(records, p, i, e, c):
@@ -54,13 +57,20 @@ def narrow_mark(records, p, i, e, c):
     common = paper.marks[i] & records.class_topics(e, c)
     if common == 0:
         return [NOT_RIGHT]
-    paper.marks[i] = common
+    paper.put_marks(paper.marks[:i] + [common] + paper.marks[i + 1:])
     return [size_of(common)]
 
 
 def take_mark(records, p, i):
     if not records.has_paper(p) or not records.papers[p].has_mark(i):
         return [NO_PAPER]
-    marks = records.papers[p].marks
-    marks.pop(i)
-    return [len(marks)]
+    paper = records.papers[p]
+    paper.put_marks(paper.marks[:i] + paper.marks[i + 1:])
+    return [len(paper.marks)]
+
+
+def tell_paper(records, p):
+    if not records.has_paper(p):
+        return [NO_PAPER]
+    paper = records.papers[p]
+    return [paper.day] + counted(paper.words) + counted(paper.marks)

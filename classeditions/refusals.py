@@ -5,3 +5,4 @@ FULL = -3
 NO_PAPER = -5
 NOT_RIGHT = -6
 NOT_THERE = -7
+NO_QUERY = -8

@@ -29,3 +29,8 @@ def split_at(row, mark):
             part.append(value)
     parts.append(part)
     return parts
+
+
+def counted(row):
+    """The row with how many numbers it has before it."""
+    return [len(row)] + row

@@ -12,6 +12,11 @@ def set_of(topics):
     return found
 
 
+def topics_of(number):
+    """The topics of a set, going up."""
+    return [topic for topic, power in enumerate(POWERS) if (number & power) != 0]
+
+
 def without(first, second):
     """The topics of the first set that the second hasn't."""
     return first - (first & second)
@@ -19,4 +24,4 @@ def without(first, second):
 
 def size_of(topics):
     """How many topics a set has."""
-    return len([power for power in POWERS if (topics & power) != 0])
+    return len(topics_of(topics))

@@ -57,19 +57,55 @@ def unmark(p, i):
     return [9, p, i]
 
 
+def told(p):
+    return [10, p]
+
+
+def ask(k, e, text):
+    return [11, k, e] + row(as_bytes(text))
+
+
+def asks(k):
+    return [12, k]
+
+
+def find(k):
+    return [13, k]
+
+
+def likely(k, p):
+    return [14, k, p]
+
+
+def ranked(k):
+    return [15, k]
+
+
+def same(j, k):
+    return [16, j, k]
+
+
+def news(k):
+    return [17, k]
+
+
+def counts():
+    return [18]
+
+
 def flat(calls):
     return [number for call in calls for number in call]
 
 
-def rows_of(told):
+def rows_of(answered):
     """The answers as a list of rows."""
     rows = []
     place = 0
-    while place < len(told):
-        end = place + 1 + told[place]
-        rows.append(told[place + 1:end])
+    while place < len(answered):
+        end = place + 1 + answered[place]
+        rows.append(answered[place + 1:end])
         place = end
-    assert place == len(told)
+    assert place == len(answered)
     return rows
 
 

@@ -23,6 +23,9 @@ METHODS = set("""append clear copy count endswith extend find get index insert i
 WORDS = re.compile(r"\b(type|typing|typing_extensions|enum|Enum|IntEnum|StrEnum|Flag|IntFlag|Generic|Protocol|ABC"
                    r"|ABCMeta|namedtuple|NamedTuple|TypedDict|TYPE_CHECKING|abstractmethod)\b"
                    r"|dataclass|overload|contextmanager")
+NOT_USED = set("""register mro elements open input version_info with_traceback add_note attrgetter breakpoint builtins
+    compile copyright credits delattr dir eval exec exit gc getattr globals hasattr help id importlib license locals
+    methodcaller os quit setattr super type vars sys""".split())
 TAKEN = set().union(*[dir(kind) for kind in (str, int, list, dict, set, bytes, tuple)])
 
 
@@ -125,6 +128,30 @@ class Form(unittest.TestCase):
                     self.assertNotIn(bound, dir(builtins), name)
             if isinstance(node, ast.Name) and node.id in dir(builtins):
                 self.assertIn(node.id, OWN_OF_PYTHON, name)
+
+    def test_names_that_are_not_used(self):
+        for name, node in nodes():
+            told = [getattr(node, part, None) for part in ("id", "attr", "arg", "name")]
+            self.assertEqual(NOT_USED & {each for each in told if isinstance(each, str)}, set(), name)
+
+    def test_no_local_is_called_like_a_class_or_an_import(self):
+        for name, tree in trees():
+            tops = {each.name for node in tree.body if isinstance(node, ast.ImportFrom) for each in node.names}
+            tops |= {node.name for node in tree.body if isinstance(node, ast.ClassDef)}
+            for node in ast.walk(tree):
+                if isinstance(node, ast.FunctionDef):
+                    bound = {each.arg for each in ast.walk(node) if isinstance(each, ast.arg)}
+                    bound |= {each.id for each in ast.walk(node)
+                              if isinstance(each, ast.Name) and isinstance(each.ctx, ast.Store)}
+                    self.assertEqual(bound & tops, set(), name)
+
+    def test_sets_are_asked_on_the_spot_or_sorted(self):
+        for name, tree in trees():
+            within = [id(node.args[0]) for node in ast.walk(tree) if isinstance(node, ast.Call)
+                      and isinstance(node.func, ast.Name) and node.func.id in ("sorted", "len") and not node.keywords]
+            for node in ast.walk(tree):
+                if isinstance(node, ast.Call) and isinstance(node.func, ast.Name) and node.func.id == "set":
+                    self.assertIn(id(node), within, name)
 
     def test_methods_and_values(self):
         methods = {each.name for name, node in nodes() if isinstance(node, ast.ClassDef) for each in node.body

@@ -2,9 +2,7 @@
 
 import unittest
 
-from classeditions.desk import answer
-from classeditions.records import Records
-from tests.helper import (as_bytes, edition, GREATEST, last, LEAST, mark, marks_of, paper, remark, run, SINGLES, sum_of,
+from tests.helper import (edition, GREATEST, last, LEAST, mark, marks_of, paper, remark, run, SINGLES, sum_of, told,
                           unmark)
 
 ONE = edition(SINGLES)
@@ -28,11 +26,7 @@ class NewPaper(unittest.TestCase):
         self.assertEqual(marks_of(calls, 1, 1), [1])
 
     def test_day_and_words_are_kept(self):
-        records = Records()
-        answer(records, 0, [], [as_bytes(SINGLES)])
-        answer(records, 6, [10], [[2, 4], [1, 3]])
-        kept = records.papers[0]
-        self.assertEqual([kept.day, kept.words, kept.marks], [10, [2, 4], [2, 8]])
+        self.assertEqual(last(ONE, paper(10, [2, 4], [1, 3]), told(0)), [10, 2, 2, 4, 2, 2, 8])
 
     def test_days(self):
         for day in [0, 1, 500, 999]:
